@@ -1,0 +1,1 @@
+"""Tallerfirst: a queue whose first person goes behind the first taller one."""

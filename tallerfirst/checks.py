@@ -1,0 +1,60 @@
+"""What arguments must be: the checks that the modules share."""
+
+from tallerfirst.errors import NoGap, NoNumber, NoPerson, NoQueue, NoSteps
+
+MOST_PERSONS = 40
+MOST_HEIGHT = 10 ** 30
+MOST_GAP = 10 ** 31
+MOST_STEPS = 2000
+MOST_FAR_STEPS = 10 ** 30
+
+
+def is_integer(value, least, most):
+    """Tell whether the value is an integer from `least` to `most`."""
+    # To Python True and False are ints, to this package they are not integers.
+    if not isinstance(value, int) or isinstance(value, bool):
+        return False
+    return least <= value <= most
+
+
+def is_height(value):
+    """Tell whether the value can be the height of a person."""
+    return is_integer(value, -MOST_HEIGHT, MOST_HEIGHT)
+
+
+def has_different_heights(value):
+    """Tell whether the value is a tuple of 1 to 40 different heights."""
+    if not isinstance(value, tuple) or not 1 <= len(value) <= MOST_PERSONS:
+        return False
+    # Only integers may reach the set: other items may have no hash.
+    return all([is_height(item) for item in value]) and len(set(value)) == len(value)
+
+
+def check_queue(value):
+    """Raise NoQueue unless the value is a queue."""
+    if not has_different_heights(value):
+        raise NoQueue(f"a queue is a tuple of 1 to {MOST_PERSONS} different integers")
+
+
+def check_person(queue, value):
+    """Raise NoPerson unless the value is a person of the queue."""
+    if not is_height(value) or value not in queue:
+        raise NoPerson("this is not a person of the queue")
+
+
+def check_gap(value):
+    """Raise NoGap unless the value is a gap."""
+    if not is_integer(value, 1, MOST_GAP):
+        raise NoGap(f"a gap is an integer from 1 to {MOST_GAP}")
+
+
+def check_steps(value, most):
+    """Raise NoSteps unless the value is a number of steps from 0 to `most`."""
+    if not is_integer(value, 0, most):
+        raise NoSteps(f"the number of steps is an integer from 0 to {most}")
+
+
+def check_number(value, most):
+    """Raise NoNumber unless the value is an integer from 0 to `most`."""
+    if not is_integer(value, 0, most):
+        raise NoNumber(f"the number is an integer from 0 to {most}")

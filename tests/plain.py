@@ -1,0 +1,155 @@
+"""What the tests share: sample queues, wrong values and a plain simulation.
+
+The simulation follows the words of the document and imports nothing from the package.
+"""
+
+import itertools
+import random
+
+LINE = (3, 5, 2, 4)
+CALM = (3, 2, 4, 5)
+FAR = 10 ** 30
+
+# The steps, the queue and the mover of the table in the document; the number is None if not settled.
+TABLE = [
+    (0, (3, 5, 2, 4), 3, None),
+    (1, (5, 3, 2, 4), 5, None),
+    (2, (3, 2, 4, 5), 3, 6),
+    (3, (2, 4, 3, 5), 2, 5),
+    (4, (4, 2, 3, 5), 4, 4),
+    (5, (2, 3, 5, 4), 2, 3),
+    (6, (3, 2, 5, 4), 3, 2),
+    (7, (2, 5, 3, 4), 2, 1),
+    (8, (5, 2, 3, 4), 5, 0),
+    (9, (2, 3, 4, 5), 2, 7),
+]
+
+ODD_VALUES = [
+    True, False, None, "", "3", "3 5 2 4", b"3", [], [3], [3, 5, 2, 4], {}, {3: 5}, {3, 5}, frozenset({3}),
+    range(3), object(), int, len, (), ((),), ([3],), ({},), ([], []), ("3",), (None,), (b"3", 3),
+    (True,), (False,), (True, 0), (1, True), (2, False), (3, 5, True), (3, 5, None), ((3, 5),), ((3, 5), 2),
+    [[3]] * 3,
+]
+
+
+def wrong_queues():
+    """Values that are no queues."""
+    return ODD_VALUES + [
+        0, 3, -1, FAR, (3, 3), (3, 5, 3), (5, 2, 4, 4), (0, 0), tuple(range(41)), tuple(range(60)),
+        (FAR + 1,), (-FAR - 1,), (3, FAR + 1, 2), (3, 5, -FAR - 1), (1, 2, "2"), (10 ** 36, 1),
+        tuple([1, 2] * 20), tuple(range(40)) + (39,), (3, 5, 2, [4]), (3, 5, 2, {4}), (3, 5, 2, (4,)),
+    ]
+
+
+def wrong_integers(least, most):
+    """Values that are no integers from least to most."""
+    beyond = [least - 1, most + 1, -10 ** 36, 10 ** 36]
+    return ODD_VALUES + [(least,), [least], str(least), (most,)] + beyond
+
+
+def wrong_persons(queue):
+    """Values that are no persons of the queue."""
+    absent = [max(queue) + 1, min(queue) - 1, FAR + 1, -FAR - 1, 10 ** 36, queue, list(queue)]
+    return ODD_VALUES + absent + [(queue[0],), [queue[0]], str(queue[0])]
+
+
+def plain_host(queue, gap=1):
+    for other in queue[1:]:
+        if other >= queue[0] + gap:
+            return other
+    return None
+
+
+def plain_step(queue, gap=1):
+    rest = list(queue)
+    first = rest.pop(0)
+    behind = plain_host(queue, gap)
+    if behind is None:
+        rest.append(first)
+    else:
+        rest.insert(rest.index(behind) + 1, first)
+    return tuple(rest)
+
+
+def plain_history(queue, steps, gap=1):
+    """The queues after 0, 1, .., steps steps."""
+    history = [tuple(queue)]
+    for _ in range(steps):
+        history.append(plain_step(history[-1], gap))
+    return history
+
+
+def plain_movers(queue, steps, gap=1):
+    return [present[0] for present in plain_history(queue, steps, gap)[:steps]]
+
+
+def plain_ahead(queue, person):
+    ahead = []
+    for other in queue:
+        if other == person:
+            return ahead
+        if other > person:
+            ahead.append(other)
+    raise AssertionError("the person is not there")
+
+
+def plain_unsettled(queue):
+    return sorted(person for person in queue if len(plain_ahead(queue, person)) >= 2)
+
+
+def plain_settling_time(queue):
+    steps = 0
+    while plain_unsettled(queue):
+        queue = plain_step(queue)
+        steps += 1
+    return steps
+
+
+def plain_number(queue):
+    total = 0
+    for person in queue:
+        if person != max(queue) and not plain_ahead(queue, person):
+            total += 2 ** sum(1 for other in queue if other < person)
+    return total
+
+
+def all_queues(most):
+    """All orders of the persons 1 to n, for each n up to most."""
+    return [queue for size in range(1, most + 1) for queue in itertools.permutations(range(1, size + 1))]
+
+
+def some_queues(many, seed, least=1, most=40, height=60):
+    """Random queues of all sizes from least to most; the same ones at each call."""
+    dice = random.Random(seed)
+    sizes = [least + at % (most - least + 1) for at in range(many)]
+    return [tuple(dice.sample(range(-height, height + 1), size)) for size in sizes]
+
+
+def high_queues(many, seed):
+    """Random queues of 1 to 40 persons with heights up to the limit, which both ends reach."""
+    dice = random.Random(seed)
+    found = []
+    for at in range(many):
+        heights = [FAR, -FAR] + [dice.randint(-FAR + 1, FAR - 1) for _ in range(38)]
+        heights = heights[:at % 40 + 1]
+        dice.shuffle(heights)
+        found.append(tuple(heights))
+    return found
+
+
+def slowest(size):
+    """All persons ascending, but the shortest one at the end."""
+    return tuple(range(2, size + 1)) + (1,)
+
+
+def plain_settled(size, dice):
+    """A settled queue of the persons 1 to size, made by hand from the tallest on."""
+    line = []
+    for person in range(size, 0, -1):
+        line.insert(dice.randint(0, 1), person)
+    return tuple(line)
+
+
+def some_settled(many, seed, most=40):
+    dice = random.Random(seed)
+    return [plain_settled(at % most + 1, dice) for at in range(many)]

@@ -1,0 +1,176 @@
+"""Points [3] and [4]: wrong inputs of every kind, alone and several at a time."""
+
+import copy
+import inspect
+import itertools
+import unittest
+
+from tallerfirst import queues, settled, times
+from tallerfirst.errors import NoGap, NoNumber, NoPerson, NoQueue, NoSteps
+from tests import plain
+from tests.plain import FAR, LINE
+
+# Of each parameter: a right value, some wrong values, the error.
+QUEUE = (LINE, plain.wrong_queues(), NoQueue)
+GAP = (1, plain.wrong_integers(1, 10 ** 31), NoGap)
+STEPS = (4, plain.wrong_integers(0, 2000), NoSteps)
+FAR_STEPS = (4, plain.wrong_integers(0, FAR), NoSteps)
+PERSON = (3, plain.wrong_persons(LINE), NoPerson)
+NUMBER = (4, plain.wrong_integers(0, 7), NoNumber)
+FAR_NUMBER = (4, plain.wrong_integers(0, FAR), NoNumber)
+
+# The parameters of each function, in the order in which their errors are listed.
+CALLS = [
+    (queues.host, {"queue": QUEUE, "gap": GAP}),
+    (queues.step, {"queue": QUEUE, "gap": GAP}),
+    (queues.run, {"queue": QUEUE, "steps": STEPS, "gap": GAP}),
+    (queues.movers, {"queue": QUEUE, "steps": STEPS, "gap": GAP}),
+    (queues.as_tall, {"queue": QUEUE, "person": PERSON}),
+    (queues.taller_ahead, {"queue": QUEUE, "person": PERSON}),
+    (settled.is_settled, {"queue": QUEUE}),
+    (settled.unsettled, {"queue": QUEUE}),
+    (settled.number_of, {"queue": (plain.CALM,) + QUEUE[1:]}),
+    (settled.settled_queue, {"persons": QUEUE, "number": NUMBER}),
+    (settled.steps_between, {"queue": (plain.CALM,) + QUEUE[1:], "other": (plain.CALM,) + QUEUE[1:]}),
+    (times.moves_before, {"queue": QUEUE, "person": PERSON}),
+    (times.first_move, {"queue": QUEUE, "person": PERSON}),
+    (times.nth_move, {"queue": QUEUE, "person": PERSON, "number": FAR_NUMBER}),
+    (times.moves_of, {"queue": QUEUE, "person": PERSON, "steps": FAR_STEPS}),
+    (times.settling_time, {"queue": QUEUE}),
+]
+
+SIGNATURES = {
+    queues: {
+        "is_queue": "(value)",
+        "host": "(queue, *, gap=1)",
+        "step": "(queue, *, gap=1)",
+        "run": "(queue, steps, *, gap=1)",
+        "movers": "(queue, steps, *, gap=1)",
+        "as_tall": "(queue, person)",
+        "taller_ahead": "(queue, person)",
+    },
+    settled: {
+        "is_settled": "(queue)",
+        "unsettled": "(queue)",
+        "number_of": "(queue)",
+        "settled_queue": "(persons, number)",
+        "steps_between": "(queue, other)",
+    },
+    times: {
+        "moves_before": "(queue, person)",
+        "first_move": "(queue, person)",
+        "nth_move": "(queue, person, number)",
+        "moves_of": "(queue, person, steps)",
+        "settling_time": "(queue)",
+    },
+}
+
+
+def call(function, values):
+    """Call the function by position, and with the gap by keyword; exhaust a generator."""
+    named = {name: value for name, value in values.items() if name == "gap"}
+    placed = [value for name, value in values.items() if name != "gap"]
+    result = function(*placed, **named)
+    return list(result) if inspect.isgenerator(result) else result
+
+
+class WrongInputsTest(unittest.TestCase):
+    def test_right_values_are_taken(self):
+        for function, parameters in CALLS:
+            call(function, {name: right for name, (right, _, _) in parameters.items()})
+
+    def test_one_wrong_value(self):
+        for function, parameters in CALLS:
+            for name, (_, wrong, error) in parameters.items():
+                for value in wrong:
+                    values = {other: right for other, (right, _, _) in parameters.items()}
+                    values[name] = value
+                    self.check(function, values, error)
+
+    def test_several_wrong_values(self):
+        for function, parameters in CALLS:
+            names = list(parameters)
+            for many in range(2, len(names) + 1):
+                for bad in itertools.combinations(names, many):
+                    self.check_together(function, parameters, bad)
+
+    def check_together(self, function, parameters, bad):
+        values = {name: right for name, (right, _, _) in parameters.items()}
+        error = parameters[bad[0]][2]
+        for at in range(0, 40, 3):
+            for name in bad:
+                wrong = parameters[name][1]
+                values[name] = wrong[at % len(wrong)]
+            self.check(function, values, error)
+
+    def check(self, function, values, error):
+        before = repr(values)
+        with self.subTest(function.__name__, values=before):
+            with self.assertRaises(error) as caught:
+                call(function, values)
+            self.assertIs(type(caught.exception), error)
+            self.assertEqual(repr(values), before)
+
+    def test_errors_change_nothing(self):
+        for function, parameters in CALLS:
+            right = {name: value for name, (value, _, _) in parameters.items()}
+            before = copy.deepcopy(call(function, right))
+            with self.assertRaises(NoQueue):
+                call(function, {name: None for name in parameters})
+            self.assertEqual(call(function, right), before)
+
+
+class EdgesTest(unittest.TestCase):
+    def test_edges_are_taken(self):
+        line = tuple(range(40))
+        for steps in (0, 2000):
+            self.assertEqual(len(list(queues.movers(line, steps))), steps)
+            self.assertEqual(sorted(queues.run(line, steps)), list(line))
+        for gap in (1, 10 ** 31):
+            self.assertEqual(queues.run(line, 1, gap=gap), queues.step(line, gap=gap))
+            self.assertEqual(queues.host(line, gap=gap), 1 if gap == 1 else None)
+            self.assertEqual(list(queues.movers(line, 1, gap=gap)), [0])
+        for number in (0, FAR):
+            self.assertEqual(times.nth_move(line, 0, number), 1 + 2 * number)
+            self.assertEqual(times.moves_of(line, 0, number), number // 2)
+
+    def test_one_beyond(self):
+        line = tuple(range(40))
+        for steps in (-1, 2001):
+            for function in (queues.run, queues.movers):
+                with self.assertRaises(NoSteps):
+                    call(function, {"queue": line, "steps": steps, "gap": 1})
+        for gap in (0, 10 ** 31 + 1):
+            for function in (queues.host, queues.step):
+                with self.assertRaises(NoGap):
+                    function(line, gap=gap)
+        for number in (-1, FAR + 1):
+            with self.assertRaises(NoNumber):
+                times.nth_move(line, 0, number)
+            with self.assertRaises(NoSteps):
+                times.moves_of(line, 0, number)
+
+
+class InterfaceTest(unittest.TestCase):
+    def test_signatures_and_files(self):
+        for module, functions in SIGNATURES.items():
+            for name, signature in functions.items():
+                with self.subTest(name):
+                    function = getattr(module, name)
+                    self.assertEqual(str(inspect.signature(function)), signature)
+                    self.assertEqual(function.__module__, module.__name__)
+                    self.assertEqual(function.__name__, name)
+
+    def test_same_results_again(self):
+        first = [call(function, {name: value for name, (value, _, _) in parameters.items()})
+                 for function, parameters in CALLS]
+        again = [call(function, {name: value for name, (value, _, _) in parameters.items()})
+                 for function, parameters in CALLS]
+        self.assertEqual(first, again)
+        for one, two in zip(first, again):
+            if isinstance(one, list):
+                self.assertIsNot(one, two)
+
+
+if __name__ == "__main__":
+    unittest.main()
