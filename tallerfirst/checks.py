@@ -1,12 +1,14 @@
 """What arguments must be: the checks that the modules share."""
 
-from tallerfirst.errors import NoGap, NoNumber, NoPerson, NoQueue, NoSteps
+from tallerfirst.errors import NoGap, NoNumber, NoPerson, NoQueue, NoSteps, NotAlike, TooMany
 
 MOST_PERSONS = 40
 MOST_HEIGHT = 10 ** 30
 MOST_GAP = 10 ** 31
 MOST_STEPS = 2000
 MOST_FAR_STEPS = 10 ** 30
+MOST_STEPS_BACK = 60
+MOST_TRIED = 7
 
 
 def is_integer(value, least, most):
@@ -48,13 +50,25 @@ def check_gap(value):
         raise NoGap(f"a gap is an integer from 1 to {MOST_GAP}")
 
 
-def check_steps(value, most):
-    """Raise NoSteps unless the value is a number of steps from 0 to `most`."""
-    if not is_integer(value, 0, most):
-        raise NoSteps(f"the number of steps is an integer from 0 to {most}")
+def check_steps(value, most, least=0):
+    """Raise NoSteps unless the value is a number of steps from `least` to `most`."""
+    if not is_integer(value, least, most):
+        raise NoSteps(f"the number of steps is an integer from {least} to {most}")
 
 
-def check_number(value, most):
-    """Raise NoNumber unless the value is an integer from 0 to `most`."""
-    if not is_integer(value, 0, most):
-        raise NoNumber(f"the number is an integer from 0 to {most}")
+def check_number(value, most, least=0):
+    """Raise NoNumber unless the value is an integer from `least` to `most`."""
+    if not is_integer(value, least, most):
+        raise NoNumber(f"the number is an integer from {least} to {most}")
+
+
+def check_alike(queue, other):
+    """Raise NotAlike unless the two queues have the same persons."""
+    if sorted(queue) != sorted(other):
+        raise NotAlike("the two queues do not have the same persons")
+
+
+def check_few(persons):
+    """Raise TooMany if there are too many persons to try all their queues."""
+    if persons > MOST_TRIED:
+        raise TooMany(persons)

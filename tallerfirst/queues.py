@@ -21,7 +21,7 @@ def step(queue, *, gap=1):
     """Return the queue after one step."""
     check_queue(queue)
     check_gap(gap)
-    return _stepped(queue, gap)
+    return stepped(queue, gap)
 
 
 def run(queue, steps, *, gap=1):
@@ -31,7 +31,7 @@ def run(queue, steps, *, gap=1):
     check_gap(gap)
     present = queue
     for _ in range(steps):
-        present = _stepped(present, gap)
+        present = stepped(present, gap)
     return present
 
 
@@ -43,7 +43,7 @@ def movers(queue, steps, *, gap=1):
     present = queue
     for _ in range(steps):
         yield present[0]
-        present = _stepped(present, gap)
+        present = stepped(present, gap)
 
 
 def as_tall(queue, person):
@@ -69,7 +69,7 @@ def _place_of_host(queue, gap):
     return None
 
 
-def _stepped(queue, gap):
+def stepped(queue, gap):
     """Return the queue after one step, without any check."""
     at = _place_of_host(queue, gap)
     behind = len(queue) if at is None else at + 1

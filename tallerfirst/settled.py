@@ -1,7 +1,7 @@
 """Settled queues and their numbers."""
 
-from tallerfirst.checks import check_number, check_queue
-from tallerfirst.errors import NotAlike, NotSettled
+from tallerfirst.checks import check_alike, check_number, check_queue
+from tallerfirst.errors import NotSettled
 from tallerfirst.queues import taller_ahead
 
 
@@ -30,7 +30,7 @@ def number_of(queue):
 def settled_queue(persons, number):
     """Return the settled queue of the persons with this number."""
     check_queue(persons)
-    check_number(number, _ring(persons) - 1)
+    check_number(number, ring_of(persons) - 1)
     ascending = sorted(persons)
     line = ascending[-1:]
     for shorter in range(len(ascending) - 2, -1, -1):
@@ -44,11 +44,10 @@ def steps_between(queue, other):
     """Return the least number of steps from a settled queue to another."""
     check_queue(queue)
     check_queue(other)
-    if sorted(queue) != sorted(other):
-        raise NotAlike("the two queues do not have the same persons")
-    return (number_of(queue) - number_of(other)) % _ring(queue)
+    check_alike(queue, other)
+    return (number_of(queue) - number_of(other)) % ring_of(queue)
 
 
-def _ring(persons):
+def ring_of(persons):
     """Return how many settled queues these persons have."""
     return 1 << (len(persons) - 1)

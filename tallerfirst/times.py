@@ -6,14 +6,13 @@ on has every second move.
 """
 
 from tallerfirst.checks import MOST_FAR_STEPS, check_number, check_person, check_queue, check_steps
-from tallerfirst.settled import unsettled
 
 
 def moves_before(queue, person):
     """Return how often taller persons move before the person is first in front."""
     check_queue(queue)
     check_person(queue, person)
-    return _waits(queue)[person]
+    return dict(waits_of(queue))[person]
 
 
 def first_move(queue, person):
@@ -26,10 +25,15 @@ def nth_move(queue, person, number):
     check_queue(queue)
     check_person(queue, person)
     check_number(number, MOST_FAR_STEPS)
-    waits = _waits(queue)
+    waits = waits_of(queue)
     # The tallest person has nobody to take turns with.
-    turns = number if person == max(queue) else 2 * number
-    return _step_of_move(waits, person, waits[person] + turns + 1)
+    step = 1 + (number if person == waits[0][0] else 2 * number)
+    for other, wait in waits:
+        if other == person:
+            step += wait
+        elif other < person:
+            step = lifted(step, wait)
+    return step
 
 
 def moves_of(queue, person, steps):
@@ -37,48 +41,54 @@ def moves_of(queue, person, steps):
     check_queue(queue)
     check_person(queue, person)
     check_steps(steps, MOST_FAR_STEPS)
-    waits = _waits(queue)
+    waits = waits_of(queue)
     moves = steps
-    for shorter in sorted([other for other in queue if other < person]):
-        moves -= _turns(moves, waits[shorter])
-    return moves if person == max(queue) else _turns(moves, waits[person])
+    for other, wait in reversed(waits):
+        if other == person and person != waits[0][0]:
+            return turns(moves, wait)
+        if other < person:
+            moves -= turns(moves, wait)
+    return moves
 
 
 def settling_time(queue):
     """Return the least number of steps after which the queue is settled."""
     check_queue(queue)
-    waits = _waits(queue)
     latest = 0
-    for person in unsettled(queue):
+    for _, wait in waits_of(queue):
         # The last move of the wait takes away the only taller person ahead,
         # so the person is settled by the move before it.
-        latest = max(latest, _step_of_move(waits, person, waits[person] - 1))
+        latest = max(lifted(latest, wait), wait - 1)
     return latest
 
 
-def _waits(queue):
-    """Return for each person, from the tallest on, how often taller ones move first."""
-    places = {person: at for at, person in enumerate(queue)}
-    waits = {}
-    for person in sorted(queue, reverse=True):
+def waits_of(queue):
+    """Return pairs from the tallest person on: the person, and how often taller ones move before it does."""
+    pairs = []
+    for person in queue:
         moves = 0
+        place = 0
         # A taller one ahead moves after its own wait, and again after each later move of those above it.
-        for taller, wait in waits.items():
-            if places[taller] < places[person]:
-                moves += 1 + moves - wait
-        waits[person] = moves
-    return waits
+        for taller, wait in pairs:
+            if taller < person:
+                break
+            moves += 1 + moves - wait
+            place += 1
+        pairs.insert(place, (person, moves))
+    return pairs
 
 
-def _step_of_move(waits, person, move):
-    """Return the step of a move that is counted among the person and all taller ones."""
-    step = move
-    for other, wait in waits.items():
-        if other < person and step > wait:
-            step += step - wait
-    return step
+def lifted(move, wait):
+    """Return the place of a taller ones' move among the moves of a person with this wait and of all taller ones."""
+    return move if move <= wait else 2 * move - wait
 
 
-def _turns(moves, wait):
-    """Return how many of the moves fall to a person who has every second one after the wait."""
+def turns(moves, wait):
+    """Return how many of the moves of a person with this wait and of all taller ones are the person's own."""
     return max(0, moves - wait + 1) // 2
+
+
+def wait_left(wait, moves):
+    """Return what is left of a wait after some moves of the person and of all taller ones."""
+    # After its first move the person waits for one taller one after each move of its own.
+    return wait - moves if moves <= wait else (moves - wait) % 2

@@ -150,6 +150,74 @@ def plain_settled(size, dice):
     return tuple(line)
 
 
+def plain_settled_queue(persons, number):
+    """The settled queue with this number: whose bit is set has no taller person ahead, the others have one."""
+    line = []
+    for shorter, person in reversed(list(enumerate(sorted(persons)))):
+        line.insert(0 if not line or number & 2 ** shorter else 1, person)
+    return tuple(line)
+
+
 def some_settled(many, seed, most=40):
     dice = random.Random(seed)
     return [plain_settled(at % most + 1, dice) for at in range(many)]
+
+
+def plain_phase(queue):
+    """The phase by its words: what the number is, when the queue is settled, with the steps added again."""
+    steps = plain_settling_time(queue)
+    return (plain_number(plain_history(queue, steps)[-1]) + steps) % 2 ** (len(queue) - 1)
+
+
+def plain_phases(size):
+    """The phase of each queue of the persons 1 to size: a settled one's number, else one more than the next queue's."""
+    ring = 2 ** (size - 1)
+    phases = {}
+    for queue in itertools.permutations(range(1, size + 1)):
+        path = []
+        while queue not in phases and plain_unsettled(queue):
+            path.append(queue)
+            queue = plain_step(queue)
+        known = phases.setdefault(queue, plain_number(queue))
+        for earlier in reversed(path):
+            known = (known + 1) % ring
+            phases[earlier] = known
+    return phases
+
+
+def plain_sources(size):
+    """For each queue of the persons 1 to size, those from which one step leads to it."""
+    queues = list(itertools.permutations(range(1, size + 1)))
+    sources = {queue: [] for queue in queues}
+    for queue in queues:
+        sources[plain_step(queue)].append(queue)
+    return sources
+
+
+def plain_far(queue, steps):
+    """The queue after many steps, by the ring of its settled queues."""
+    ring = 2 ** (len(queue) - 1)
+    return plain_history(queue, steps if steps <= ring else ring + steps % ring)[-1]
+
+
+def plain_respected(queue, person, gap):
+    return sorted(other for other in queue if other >= person + gap)
+
+
+def plain_weights(queue, gap):
+    """The weight of each person, from the tallest one on, because a weight needs those of taller ones only."""
+    weights = {}
+    for person in sorted(queue, reverse=True):
+        tall = plain_respected(queue, person, gap)
+        weights[person] = sum(weights[other] for other in tall) if tall else 1
+    return weights
+
+
+def plain_cycle(queue, gap=1):
+    history = [queue]
+    while True:
+        queue = plain_step(queue, gap)
+        if queue in history:
+            start = history.index(queue)
+            return start, len(history) - start
+        history.append(queue)

@@ -5,19 +5,23 @@ import inspect
 import itertools
 import unittest
 
-from tallerfirst import queues, settled, times
-from tallerfirst.errors import NoGap, NoNumber, NoPerson, NoQueue, NoSteps
+from tallerfirst import backwards, far, gaps, phases, queues, settled, times
+from tallerfirst.errors import NoGap, NoNumber, NoPerson, NoQueue, NoSteps, QueueError
 from tests import plain
 from tests.plain import FAR, LINE
 
 # Of each parameter: a right value, some wrong values, the error.
 QUEUE = (LINE, plain.wrong_queues(), NoQueue)
+CALM_QUEUE = (plain.CALM, plain.wrong_queues(), NoQueue)
 GAP = (1, plain.wrong_integers(1, 10 ** 31), NoGap)
 STEPS = (4, plain.wrong_integers(0, 2000), NoSteps)
 FAR_STEPS = (4, plain.wrong_integers(0, FAR), NoSteps)
+FAR_STEP = (4, plain.wrong_integers(1, FAR), NoSteps)
+STEPS_BACK = (4, plain.wrong_integers(0, 60), NoSteps)
 PERSON = (3, plain.wrong_persons(LINE), NoPerson)
 NUMBER = (4, plain.wrong_integers(0, 7), NoNumber)
 FAR_NUMBER = (4, plain.wrong_integers(0, FAR), NoNumber)
+SIZE = (4, plain.wrong_integers(1, 40), NoNumber)
 
 # The parameters of each function, in the order in which their errors are listed.
 CALLS = [
@@ -29,14 +33,29 @@ CALLS = [
     (queues.taller_ahead, {"queue": QUEUE, "person": PERSON}),
     (settled.is_settled, {"queue": QUEUE}),
     (settled.unsettled, {"queue": QUEUE}),
-    (settled.number_of, {"queue": (plain.CALM,) + QUEUE[1:]}),
+    (settled.number_of, {"queue": CALM_QUEUE}),
     (settled.settled_queue, {"persons": QUEUE, "number": NUMBER}),
-    (settled.steps_between, {"queue": (plain.CALM,) + QUEUE[1:], "other": (plain.CALM,) + QUEUE[1:]}),
+    (settled.steps_between, {"queue": CALM_QUEUE, "other": CALM_QUEUE}),
     (times.moves_before, {"queue": QUEUE, "person": PERSON}),
     (times.first_move, {"queue": QUEUE, "person": PERSON}),
     (times.nth_move, {"queue": QUEUE, "person": PERSON, "number": FAR_NUMBER}),
     (times.moves_of, {"queue": QUEUE, "person": PERSON, "steps": FAR_STEPS}),
     (times.settling_time, {"queue": QUEUE}),
+    (far.queue_after, {"queue": QUEUE, "steps": FAR_STEPS}),
+    (far.mover_at, {"queue": QUEUE, "step": FAR_STEP}),
+    (far.place_after, {"queue": QUEUE, "person": PERSON, "steps": FAR_STEPS}),
+    (phases.phase, {"queue": QUEUE}),
+    (phases.meet, {"queue": QUEUE, "other": QUEUE}),
+    (phases.queues_with_phase, {"persons": QUEUE, "phase": NUMBER}),
+    (backwards.queues_before, {"queue": QUEUE}),
+    (backwards.has_queue_before, {"queue": QUEUE}),
+    (backwards.settled_before, {"queue": CALM_QUEUE, "steps": FAR_STEPS}),
+    (backwards.count_before, {"queue": QUEUE, "steps": STEPS_BACK}),
+    (backwards.counts_by_before, {"size": SIZE}),
+    (gaps.respected, {"queue": QUEUE, "person": PERSON, "gap": GAP}),
+    (gaps.weight, {"queue": QUEUE, "person": PERSON, "gap": GAP}),
+    (gaps.share, {"queue": QUEUE, "person": PERSON, "gap": GAP}),
+    (gaps.cycle, {"queue": QUEUE, "gap": GAP}),
 ]
 
 SIGNATURES = {
@@ -62,6 +81,29 @@ SIGNATURES = {
         "nth_move": "(queue, person, number)",
         "moves_of": "(queue, person, steps)",
         "settling_time": "(queue)",
+    },
+    far: {
+        "queue_after": "(queue, steps)",
+        "mover_at": "(queue, step)",
+        "place_after": "(queue, person, steps)",
+    },
+    phases: {
+        "phase": "(queue)",
+        "meet": "(queue, other)",
+        "queues_with_phase": "(persons, phase)",
+    },
+    backwards: {
+        "queues_before": "(queue)",
+        "has_queue_before": "(queue)",
+        "settled_before": "(queue, steps)",
+        "count_before": "(queue, steps)",
+        "counts_by_before": "(size)",
+    },
+    gaps: {
+        "respected": "(queue, person, *, gap)",
+        "weight": "(queue, person, *, gap)",
+        "share": "(queue, person, *, gap)",
+        "cycle": "(queue, *, gap=1)",
     },
 }
 
@@ -115,9 +157,16 @@ class WrongInputsTest(unittest.TestCase):
         for function, parameters in CALLS:
             right = {name: value for name, (value, _, _) in parameters.items()}
             before = copy.deepcopy(call(function, right))
-            with self.assertRaises(NoQueue):
+            with self.assertRaises(QueueError):
                 call(function, {name: None for name in parameters})
             self.assertEqual(call(function, right), before)
+
+    def test_no_argument_changes(self):
+        for function, parameters in CALLS:
+            right = {name: value for name, (value, _, _) in parameters.items()}
+            before = repr(right)
+            call(function, right)
+            self.assertEqual(repr(right), before)
 
 
 class EdgesTest(unittest.TestCase):
@@ -134,6 +183,12 @@ class EdgesTest(unittest.TestCase):
             self.assertEqual(times.nth_move(line, 0, number), 1 + 2 * number)
             self.assertEqual(times.moves_of(line, 0, number), number // 2)
 
+        for steps in (0, FAR):
+            self.assertEqual(far.place_after(line, 0, steps), far.queue_after(line, steps).index(0))
+            self.assertEqual(backwards.settled_before(far.queue_after(line, steps), steps), line)
+        # 10 ** 30 is 30 times divisible by 2, so 30 persons are shorter than its mover.
+        self.assertEqual([far.mover_at(line, step) for step in (1, FAR)], [0, 30])
+
     def test_one_beyond(self):
         line = tuple(range(40))
         for steps in (-1, 2001):
@@ -149,6 +204,20 @@ class EdgesTest(unittest.TestCase):
                 times.nth_move(line, 0, number)
             with self.assertRaises(NoSteps):
                 times.moves_of(line, 0, number)
+            for function in (far.queue_after, backwards.settled_before):
+                with self.assertRaises(NoSteps):
+                    function(line, number)
+            with self.assertRaises(NoSteps):
+                far.place_after(line, 0, number)
+        for step in (0, FAR + 1):
+            with self.assertRaises(NoSteps):
+                far.mover_at(line, step)
+        for steps in (-1, 61):
+            with self.assertRaises(NoSteps):
+                backwards.count_before(line, steps)
+        for size in (0, 41):
+            with self.assertRaises(NoNumber):
+                backwards.counts_by_before(size)
 
 
 class InterfaceTest(unittest.TestCase):
