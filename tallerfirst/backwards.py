@@ -2,7 +2,7 @@
 
 from tallerfirst.checks import MOST_FAR_STEPS, MOST_PERSONS, MOST_STEPS_BACK
 from tallerfirst.checks import check_few, check_number, check_queue, check_steps
-from tallerfirst.settled import number_of, ring_of, settled_queue
+from tallerfirst.settled import queue_of_number, ring_of, settled_number
 
 
 def queues_before(queue):
@@ -21,7 +21,7 @@ def settled_before(queue, steps):
     """Return the settled queue that leads to a settled queue after this number of steps."""
     check_queue(queue)
     check_steps(steps, MOST_FAR_STEPS)
-    return settled_queue(queue, (number_of(queue) + steps) % ring_of(queue))
+    return queue_of_number(queue, (settled_number(queue) + steps) % ring_of(queue))
 
 
 def count_before(queue, steps):

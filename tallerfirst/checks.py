@@ -28,8 +28,12 @@ def has_different_heights(value):
     """Tell whether the value is a tuple of 1 to 40 different heights."""
     if not isinstance(value, tuple) or not 1 <= len(value) <= MOST_PERSONS:
         return False
-    # Only integers may reach the set: other items may have no hash.
-    return all([is_height(item) for item in value]) and len(set(value)) == len(value)
+    for item in value:
+        # The first look is enough for nearly all items, and much shorter.
+        if type(item) is not int and not is_height(item):
+            return False
+    # Only integers come here: other items may have no order and no hash.
+    return -MOST_HEIGHT <= min(value) and max(value) <= MOST_HEIGHT and len(set(value)) == len(value)
 
 
 def check_queue(value):

@@ -8,7 +8,7 @@ def queue_after(queue, steps):
     """Return the queue after this number of steps."""
     check_queue(queue)
     check_steps(steps, MOST_FAR_STEPS)
-    return _line_after(queue, steps)
+    return line_after(queue, steps)
 
 
 def mover_at(queue, step):
@@ -29,10 +29,10 @@ def place_after(queue, person, steps):
     check_queue(queue)
     check_person(queue, person)
     check_steps(steps, MOST_FAR_STEPS)
-    return _line_after(queue, steps).index(person)
+    return line_after(queue, steps).index(person)
 
 
-def _line_after(queue, steps):
+def line_after(queue, steps):
     """Return the queue after the steps, without any check."""
     waits = waits_of(queue)
     left = []

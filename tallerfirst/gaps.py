@@ -5,7 +5,7 @@ from math import gcd
 from tallerfirst.checks import check_few, check_gap, check_person, check_queue
 from tallerfirst.queues import stepped
 from tallerfirst.settled import ring_of
-from tallerfirst.times import settling_time
+from tallerfirst.times import settled_after
 
 
 def respected(queue, person, *, gap):
@@ -41,7 +41,7 @@ def cycle(queue, *, gap=1):
     check_queue(queue)
     check_gap(gap)
     if gap == 1:
-        return settling_time(queue), ring_of(queue)
+        return settled_after(queue), ring_of(queue)
     check_few(len(queue))
     seen = {}
     present = queue

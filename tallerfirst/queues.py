@@ -2,6 +2,7 @@
 
 from tallerfirst.checks import MOST_STEPS, check_gap, check_person, check_queue, check_steps
 from tallerfirst.checks import has_different_heights
+from tallerfirst.far import line_after
 
 
 def is_queue(value):
@@ -13,8 +14,11 @@ def host(queue, *, gap=1):
     """Return the person behind whom the first one goes, or None."""
     check_queue(queue)
     check_gap(gap)
-    at = _place_of_host(queue, gap)
-    return None if at is None else queue[at]
+    least = queue[0] + gap
+    for other in queue:
+        if other >= least:
+            return other
+    return None
 
 
 def step(queue, *, gap=1):
@@ -29,10 +33,14 @@ def run(queue, steps, *, gap=1):
     check_queue(queue)
     check_steps(steps, MOST_STEPS)
     check_gap(gap)
-    present = queue
+    # About so many steps one by one take as long as all of them at once.
+    if gap == 1 and steps > 10 * len(queue):
+        return line_after(queue, steps)
+    line = list(queue)
+    tallest = max(line)
     for _ in range(steps):
-        present = stepped(present, gap)
-    return present
+        _move_first(line, tallest, gap)
+    return tuple(line)
 
 
 def movers(queue, steps, *, gap=1):
@@ -40,10 +48,11 @@ def movers(queue, steps, *, gap=1):
     check_queue(queue)
     check_steps(steps, MOST_STEPS)
     check_gap(gap)
-    present = queue
+    line = list(queue)
+    tallest = max(line)
     for _ in range(steps):
-        yield present[0]
-        present = stepped(present, gap)
+        yield line[0]
+        _move_first(line, tallest, gap)
 
 
 def as_tall(queue, person):
@@ -61,16 +70,21 @@ def taller_ahead(queue, person):
     return [other for other in ahead if other > person]
 
 
-def _place_of_host(queue, gap):
-    """Return the index of the host of the first person, or None."""
-    for at in range(1, len(queue)):
-        if queue[at] - queue[0] >= gap:
-            return at
-    return None
-
-
 def stepped(queue, gap):
     """Return the queue after one step, without any check."""
-    at = _place_of_host(queue, gap)
-    behind = len(queue) if at is None else at + 1
-    return queue[1:behind] + queue[:1] + queue[behind:]
+    line = list(queue)
+    _move_first(line, max(line), gap)
+    return tuple(line)
+
+
+def _move_first(line, tallest, gap):
+    """Let the first person of the list move."""
+    first = line.pop(0)
+    least = first + gap
+    behind = len(line)
+    # Without this look at the tallest person, all would be looked at when nobody is tall enough.
+    if least <= tallest:
+        behind = 1
+        while line[behind - 1] < least:
+            behind += 1
+    line.insert(behind, first)

@@ -12,7 +12,9 @@ def moves_before(queue, person):
     """Return how often taller persons move before the person is first in front."""
     check_queue(queue)
     check_person(queue, person)
-    return dict(waits_of(queue))[person]
+    # Those behind the person and shorter ones have no part in this, so the person is the shortest of the others.
+    tall = [other for other in queue[:queue.index(person) + 1] if other >= person]
+    return waits_of(tall)[-1][1]
 
 
 def first_move(queue, person):
@@ -54,6 +56,11 @@ def moves_of(queue, person, steps):
 def settling_time(queue):
     """Return the least number of steps after which the queue is settled."""
     check_queue(queue)
+    return settled_after(queue)
+
+
+def settled_after(queue):
+    """Return the settling time, without any check."""
     latest = 0
     for _, wait in waits_of(queue):
         # The last move of the wait takes away the only taller person ahead,
@@ -66,20 +73,21 @@ def waits_of(queue):
     """Return pairs from the tallest person on: the person, and how often taller ones move before it does."""
     pairs = []
     for person in queue:
-        moves = 0
+        # The first move, counted among those of the person and of the taller ones ahead. Each of these puts it
+        # off by the moves that it has before: one after its own wait, and one after each later move above it.
+        first = 1
         place = 0
-        # A taller one ahead moves after its own wait, and again after each later move of those above it.
         for taller, wait in pairs:
             if taller < person:
                 break
-            moves += 1 + moves - wait
+            first += first - wait
             place += 1
-        pairs.insert(place, (person, moves))
+        pairs.insert(place, (person, first - 1))
     return pairs
 
 
 def lifted(move, wait):
-    """Return the place of a taller ones' move among the moves of a person with this wait and of all taller ones."""
+    """Count a move, so far counted among all taller ones' only, among those of a person with this wait, too."""
     return move if move <= wait else 2 * move - wait
 
 

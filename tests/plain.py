@@ -221,3 +221,30 @@ def plain_cycle(queue, gap=1):
             start = history.index(queue)
             return start, len(history) - start
         history.append(queue)
+
+
+def plain_before(queue):
+    """All queues from which one step leads to the queue, found by trying each person at the front."""
+    moved = [(person,) + tuple(other for other in queue if other != person) for person in queue]
+    return sorted(before for before in moved if plain_step(before) == queue)
+
+
+def queues_back(queue, steps, dice):
+    """Some queues that lead to the queue after this number of steps, unsettled ones where there are any."""
+    found = [queue]
+    for _ in range(steps):
+        earlier = [before for later in found for before in plain_before(later)]
+        dice.shuffle(earlier)
+        found = sorted(earlier, key=lambda before: not plain_unsettled(before))[:6]
+    return found
+
+
+def plain_waits(queue):
+    """e(m) of each person, as the document writes it down; each one is worked out once, from the tallest on."""
+    waits = {}
+    for person in sorted(queue, reverse=True):
+        many = {}
+        for taller in sorted(plain_ahead(queue, person), reverse=True):
+            many[taller] = 1 + sum(many.values()) - waits[taller]
+        waits[person] = sum(many.values())
+    return waits

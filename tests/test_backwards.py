@@ -11,12 +11,6 @@ from tests import plain
 from tests.plain import CALM, FAR, LINE
 
 
-def tried_before(queue):
-    """The queues before, found by trying each person at the front."""
-    moved = [(person,) + tuple(other for other in queue if other != person) for person in queue]
-    return sorted(before for before in moved if plain.plain_step(before) == queue)
-
-
 class QueuesBeforeTest(unittest.TestCase):
     def test_example(self):
         self.assertEqual(queues_before(CALM), [(2, 3, 4, 5), (5, 3, 2, 4)])
@@ -29,7 +23,7 @@ class QueuesBeforeTest(unittest.TestCase):
     def test_long_queues(self):
         later = [plain.plain_step(queue) for queue in plain.some_queues(80, 90) + plain.high_queues(40, 91)]
         for queue in later + plain.some_queues(80, 92) + plain.high_queues(40, 93) + plain.some_settled(80, 94):
-            self.assertEqual(queues_before(queue), tried_before(queue))
+            self.assertEqual(queues_before(queue), plain.plain_before(queue))
 
     def test_edges(self):
         self.assertEqual([queues_before((7,)), queues_before((1, 2)), queues_before((2, 1))],
@@ -67,7 +61,7 @@ class HasQueueBeforeTest(unittest.TestCase):
 
     def test_long_queues(self):
         for queue in plain.some_queues(80, 95) + plain.high_queues(40, 96):
-            self.assertIs(has_queue_before(queue), bool(tried_before(queue)))
+            self.assertIs(has_queue_before(queue), bool(plain.plain_before(queue)))
             self.assertIs(has_queue_before(plain.plain_step(queue)), True)
 
     def test_edges(self):
@@ -194,7 +188,7 @@ class CountsByBeforeTest(unittest.TestCase):
         dice = random.Random(100)
         for size in (8, 15, 40):
             orders = [tuple(dice.sample(range(size), size)) for _ in range(2000)]
-            many = [len(tried_before(queue)) for queue in orders]
+            many = [len(plain.plain_before(queue)) for queue in orders]
             for index, count in enumerate(counts_by_before(size)):
                 self.assertAlmostEqual(many.count(index) / len(many), count / math.factorial(size), delta=0.05)
 

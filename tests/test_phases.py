@@ -10,22 +10,6 @@ from tests import plain
 from tests.plain import CALM, FAR, LINE, TABLE
 
 
-def queues_back(queue, steps, dice):
-    """Some queues that lead to the queue after this number of steps, unsettled ones where there are any."""
-    found = [queue]
-    for _ in range(steps):
-        earlier = [before for later in found for before in plain_before(later)]
-        dice.shuffle(earlier)
-        found = sorted(earlier, key=lambda before: not plain.plain_unsettled(before))[:6]
-    return found
-
-
-def plain_before(queue):
-    """All queues whose step is the queue: somebody has moved from the front to where it stands now."""
-    moved = [(person,) + tuple(other for other in queue if other != person) for person in queue]
-    return [before for before in moved if plain.plain_step(before) == queue]
-
-
 class PhaseTest(unittest.TestCase):
     def test_example(self):
         self.assertEqual([phase(LINE), phase(CALM)], [0, 6])
@@ -96,7 +80,7 @@ class MeetTest(unittest.TestCase):
         dice = random.Random(77)
         met = []
         for queue in plain.some_settled(20, 78) + plain.some_queues(20, 79, 20, 40):
-            for one, other in itertools.combinations(queues_back(queue, 12, dice), 2):
+            for one, other in itertools.combinations(plain.queues_back(queue, 12, dice), 2):
                 histories = zip(plain.plain_history(one, 12), plain.plain_history(other, 12))
                 met.append(meet(one, other))
                 self.assertEqual(met[-1], [a == b for a, b in histories].index(True))

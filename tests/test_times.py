@@ -10,15 +10,6 @@ from tests import plain
 from tests.plain import CALM, FAR, LINE, TABLE
 
 
-def formula(queue, person):
-    """e(m) as the document writes it down."""
-    ahead = plain.plain_ahead(queue, person)
-    many = {}
-    for taller in sorted(ahead, reverse=True):
-        many[taller] = 1 + sum(many[other] for other in ahead if other > taller) - formula(queue, taller)
-    return sum(many.values())
-
-
 class MovesBeforeTest(unittest.TestCase):
     def test_example(self):
         self.assertEqual([moves_before(LINE, person) for person in LINE], [0, 0, 3, 1])
@@ -30,9 +21,8 @@ class MovesBeforeTest(unittest.TestCase):
             self.assertEqual(moves_before(plain.slowest(size), 1), 2 ** (size - 1) - 1)
 
     def test_against_formula(self):
-        for queue in plain.all_queues(6) + plain.some_queues(20, 30, 1, 10):
-            for person in queue:
-                self.assertEqual(moves_before(queue, person), formula(queue, person))
+        for queue in plain.all_queues(6) + plain.some_queues(80, 30) + plain.high_queues(40, 29):
+            self.assertEqual({person: moves_before(queue, person) for person in queue}, plain.plain_waits(queue))
 
     def test_against_simulation(self):
         for queue in plain.all_queues(6) + plain.some_queues(40, 31, 1, 9):
