@@ -24,6 +24,11 @@ def is_height(value):
     return is_integer(value, -MOST_HEIGHT, MOST_HEIGHT)
 
 
+def is_person(queue, value):
+    """Tell whether the value is a person of the queue."""
+    return is_height(value) and value in queue
+
+
 def has_different_heights(value):
     """Tell whether the value is a tuple of 1 to 40 different heights."""
     if not isinstance(value, tuple) or not 1 <= len(value) <= MOST_PERSONS:
@@ -44,7 +49,7 @@ def check_queue(value):
 
 def check_person(queue, value):
     """Raise NoPerson unless the value is a person of the queue."""
-    if not is_height(value) or value not in queue:
+    if not is_person(queue, value):
         raise NoPerson("this is not a person of the queue")
 
 

@@ -33,14 +33,7 @@ def run(queue, steps, *, gap=1):
     check_queue(queue)
     check_steps(steps, MOST_STEPS)
     check_gap(gap)
-    # About so many steps one by one take as long as all of them at once.
-    if gap == 1 and steps > 10 * len(queue):
-        return line_after(queue, steps)
-    line = list(queue)
-    tallest = max(line)
-    for _ in range(steps):
-        _move_first(line, tallest, gap)
-    return tuple(line)
+    return ran(queue, steps, gap)
 
 
 def movers(queue, steps, *, gap=1):
@@ -52,7 +45,7 @@ def movers(queue, steps, *, gap=1):
     tallest = max(line)
     for _ in range(steps):
         yield line[0]
-        _move_first(line, tallest, gap)
+        move_first(line, tallest, gap)
 
 
 def as_tall(queue, person):
@@ -70,14 +63,26 @@ def taller_ahead(queue, person):
     return [other for other in ahead if other > person]
 
 
-def stepped(queue, gap):
-    """Return the queue after one step, without any check."""
+def ran(queue, steps, gap):
+    """Return the queue after this number of steps, without any check."""
+    # About so many steps one by one take as long as all of them at once.
+    if gap == 1 and steps > 10 * len(queue):
+        return line_after(queue, steps)
     line = list(queue)
-    _move_first(line, max(line), gap)
+    tallest = max(line)
+    for _ in range(steps):
+        move_first(line, tallest, gap)
     return tuple(line)
 
 
-def _move_first(line, tallest, gap):
+def stepped(queue, gap):
+    """Return the queue after one step, without any check."""
+    line = list(queue)
+    move_first(line, max(line), gap)
+    return tuple(line)
+
+
+def move_first(line, tallest, gap):
     """Let the first person of the list move."""
     first = line.pop(0)
     least = first + gap

@@ -53,6 +53,13 @@ def wrong_persons(queue):
     return ODD_VALUES + absent + [(queue[0],), [queue[0]], str(queue[0])]
 
 
+def wrong_rows(right):
+    """Values that are no lists of these integers."""
+    items = ODD_VALUES + [max(right) + 1, min(right) - 1, FAR + 1, 10 ** 36, -10 ** 36, list(right)]
+    spoilt = [row for item in items for row in ([item], [item, *right], [*right, item])]
+    return [value for value in ODD_VALUES if not isinstance(value, list)] + [tuple(right), right[0]] + spoilt
+
+
 def plain_host(queue, gap=1):
     for other in queue[1:]:
         if other >= queue[0] + gap:

@@ -5,8 +5,8 @@ import inspect
 import itertools
 import unittest
 
-from tallerfirst import backwards, far, gaps, phases, queues, settled, times
-from tallerfirst.errors import NoGap, NoNumber, NoPerson, NoQueue, NoSteps, QueueError
+from tallerfirst import backwards, far, gaps, live, phases, queues, reading, settled, texts, times
+from tallerfirst.errors import NoGap, NoNumber, NoPerson, NoQueue, NoRow, NoSteps, NoText, QueueError
 from tests import plain
 from tests.plain import FAR, LINE
 
@@ -22,6 +22,9 @@ PERSON = (3, plain.wrong_persons(LINE), NoPerson)
 NUMBER = (4, plain.wrong_integers(0, 7), NoNumber)
 FAR_NUMBER = (4, plain.wrong_integers(0, FAR), NoNumber)
 SIZE = (4, plain.wrong_integers(1, 40), NoNumber)
+ROW = ([3, 5, 3], plain.wrong_rows(LINE), NoRow)
+PLACES = ([0, 1, 0], plain.wrong_rows(range(4)), NoRow)
+TEXT = ("3 5 2 4", [value for value in plain.wrong_queues() if value not in ("3", "3 5 2 4")] + [LINE], NoText)
 
 # The parameters of each function, in the order in which their errors are listed.
 CALLS = [
@@ -56,6 +59,14 @@ CALLS = [
     (gaps.weight, {"queue": QUEUE, "person": PERSON, "gap": GAP}),
     (gaps.share, {"queue": QUEUE, "person": PERSON, "gap": GAP}),
     (gaps.cycle, {"queue": QUEUE, "gap": GAP}),
+    (reading.queues_with_row, {"persons": QUEUE, "row": ROW}),
+    (reading.misfit, {"persons": QUEUE, "row": ROW}),
+    (reading.fitting_heights, {"size": SIZE, "places": PLACES}),
+    (reading.certain_taller, {"size": SIZE, "places": PLACES}),
+    (live.LiveQueue, {"queue": QUEUE, "gap": GAP}),
+    (live.LiveQueue.settled, {"persons": QUEUE, "number": NUMBER}),
+    (texts.show_queue, {"queue": QUEUE}),
+    (texts.read_queue, {"text": TEXT}),
 ]
 
 SIGNATURES = {
@@ -105,6 +116,16 @@ SIGNATURES = {
         "share": "(queue, person, *, gap)",
         "cycle": "(queue, *, gap=1)",
     },
+    reading: {
+        "queues_with_row": "(persons, row)",
+        "misfit": "(persons, row)",
+        "fitting_heights": "(size, places)",
+        "certain_taller": "(size, places)",
+    },
+    texts: {
+        "show_queue": "(queue)",
+        "read_queue": "(text)",
+    },
 }
 
 
@@ -152,6 +173,12 @@ class WrongInputsTest(unittest.TestCase):
                 call(function, values)
             self.assertIs(type(caught.exception), error)
             self.assertEqual(repr(values), before)
+
+    def test_bools_that_equal_persons(self):
+        for function in (reading.queues_with_row, reading.misfit):
+            for row in ([True], [0, True], [False, 1], [2, 0, False]):
+                with self.assertRaises(NoRow):
+                    function((0, 1, 2), row)
 
     def test_errors_change_nothing(self):
         for function, parameters in CALLS:
